@@ -1,0 +1,1 @@
+"""Deeds that wait on a pile until all seats have passed."""
