@@ -6,7 +6,7 @@ import unittest
 import warnings
 
 FOLDER = pathlib.Path(__file__).resolve().parent.parent / "answerpiles"
-STAGES = ["errors", "rules", "piles"]
+STAGES = ["errors", "rules", "piles", "rings", "falling", "plays", "given"]
 
 
 def files():

@@ -1,0 +1,76 @@
+"""Rules of all kinds, made from numbers: the same number makes the same rules."""
+
+from answerpiles.rules import Deed, Rules, Waking
+
+
+class Numbers:
+    """A row of numbers that looks as if it followed no rule."""
+
+    def __init__(self, seed):
+        self.state = seed * 2654435761 % 2 ** 32 + 1
+
+    def below(self, most):
+        self.state = (self.state * 1103515245 + 12345) % 2 ** 31
+        return (self.state >> 8) % most
+
+    def one_of(self, values):
+        return values[self.below(len(values))]
+
+    def some_of(self, values, most):
+        found = [value for value in values if self.below(2)]
+        return found[:most]
+
+    def chance(self, part, whole):
+        return self.below(whole) < part
+
+
+MARKS = [{}, {"m": 1}, {"m": 2}, {"m": 1, "n": 1}, {"k": 1, "m": 1, "n": 1}, {"m": 3, "n": 1}]
+
+
+def counts(numbers, marks):
+    return {mark: 1 + numbers.below(end) for mark, end in marks.items() if numbers.chance(1, 4)}
+
+
+def made_deed(numbers, word, words, marks):
+    names = sorted(marks)
+    goals = numbers.some_of(names, 2) if numbers.chance(1, 3) else []
+    steps = []
+    targets = names + (["goal"] if goals else [])
+    for _ in range(numbers.below(3)):
+        if targets:
+            steps.append((numbers.one_of(["more", "less"]), numbers.one_of(targets)))
+    if numbers.chance(2, 5):
+        steps.append((numbers.one_of(["strike", "again", "turn"]),))
+    return Deed(
+        word,
+        opens=numbers.chance(1, 2) or word == words[0],
+        answers=numbers.some_of(words, 6) if numbers.chance(3, 4) else [],
+        whose=numbers.one_of(["any", "any", "own", "other"]),
+        asks=counts(numbers, marks),
+        pays=counts(numbers, marks),
+        card=numbers.chance(2, 3),
+        goals=goals,
+        steps=steps,
+    )
+
+
+def made_rules(seed, most_deeds=3):
+    numbers = Numbers(seed)
+    marks = numbers.one_of(MARKS)
+    words = ["a", "b", "c", "d"][:1 + numbers.below(most_deeds)]
+    deeds = [made_deed(numbers, word, words, marks) for word in words]
+    wakings = []
+    for _ in range(numbers.below(5)):
+        event = numbers.one_of(["laid", "done", "struck", "instead"])
+        waking = (event, numbers.one_of(words), numbers.one_of(words),
+                  numbers.one_of(["own", "next"]))
+        if waking not in [one[:4] for one in wakings]:
+            wakings.append(waking + (numbers.chance(1, 3),))
+    return Rules(
+        marks,
+        deeds,
+        [Waking(event, deed, call, by=by, may=may) for event, deed, call, by, may in wakings],
+        seats=numbers.one_of([2, 2, 3]),
+        order=numbers.one_of(["first", "last", "any"]),
+        start={mark: numbers.below(end + 1) for mark, end in marks.items()},
+    )
