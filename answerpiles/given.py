@@ -5,7 +5,7 @@ from answerpiles.forms import MOST_ENTRIES
 from answerpiles.hands import are_hands, kept_hands, told_hands
 from answerpiles.kinds import is_number
 from answerpiles.rules import Rules
-from answerpiles.steps import all_steps
+from answerpiles.steps import all_steps, text_of_move
 from answerpiles.ways import heights
 
 MOST_STATES = 1000
@@ -22,13 +22,14 @@ class Given:
             raise BadTable(table)
         if not are_hands(rules, hands):
             raise BadHands(hands)
-        self._rules = rules
+        self.rules = rules
         first = (rules.start if table is None else table, (), kept_hands(hands))
-        self._states, self._moves = all_states(rules.plan, first)
-        self._heights = heights([[to for move, to in row] for row in self._moves])
+        # Other files count and tell plays by these three, which never change.
+        self.states, self.rows = all_states(rules.plan, first)
         # The first state has an empty pile, too, but nothing has ended there.
-        self._over = [at for at, state in enumerate(self._states) if at > 0 and not state[1]]
-        self._left = moves_left(self._moves, self._over)
+        self.over = tuple([at for at, state in enumerate(self.states) if at > 0 and not state[1]])
+        self._heights = heights([[to for move, to in row] for row in self.rows])
+        self._left = moves_left(self.rows, self.over)
 
     @property
     def is_endless(self):
@@ -37,24 +38,24 @@ class Given:
 
     def results(self):
         """The tables with which a play can end."""
-        return sorted(set([self._states[at][0] for at in self._over]))
+        return sorted(set([self.states[at][0] for at in self.over]))
 
     def left(self, table):
         """The hands with which a play can end with a table."""
-        found = [told_hands(self._states[at][2]) for at in self._over_with(table)]
+        found = [told_hands(self.states[at][2]) for at in self._ended_with(table)]
         return sorted(found, key=str)
 
     def many(self):
         """How many plays end, or None if there are more than any number."""
         useful = [left is not None for left in self._left]
         rows = []
-        for row in self._moves:
+        for row in self.rows:
             rows.append([to for move, to in row if useful[to]])
         high = heights(rows)
         if high[0] is None:
             return None
         counts = [0 for _ in rows]
-        for at in self._over:
+        for at in self.over:
             counts[at] = 1
         order = sorted([(height, at) for at, height in enumerate(high) if height is not None])
         for height, at in order:
@@ -64,13 +65,13 @@ class Given:
 
     def shortest(self, table):
         """The first one of the plays with the fewest moves that end with a table, or None."""
-        left = moves_left(self._moves, self._over_with(table))
+        left = moves_left(self.rows, self._ended_with(table))
         if left[0] is None:
             return None
         found = []
         at = 0
         while left[at] > 0:
-            nearer = [row for row in self._moves[at] if left[row[1]] == left[at] - 1]
+            nearer = [row for row in self.rows[at] if left[row[1]] == left[at] - 1]
             move, at = nearer[0]
             found.append(move)
         return found
@@ -79,7 +80,7 @@ class Given:
         """All plays that end with at most so many moves, in order."""
         if not is_number(most, 0, MOST_MOVES):
             raise BadNumber(most)
-        over = {at: True for at in self._over}
+        over = {at: True for at in self.over}
         # For each move of the play so far, which one of its state's moves it is.
         taken = []
         path = [0]
@@ -87,19 +88,19 @@ class Given:
         while path:
             at = path[-1]
             if at in over:
-                yield [self._moves[path[k]][pick][0] for k, pick in enumerate(taken)]
+                yield [self.rows[path[k]][pick][0] for k, pick in enumerate(taken)]
             choice = self._usable(at, choice, most - len(taken))
             if choice is None:
                 path.pop()
                 choice = taken.pop() + 1 if taken else None
             else:
                 taken.append(choice)
-                path.append(self._moves[at][choice][1])
+                path.append(self.rows[at][choice][1])
                 choice = 0
 
     def _usable(self, at, choice, most):
         """The first choice, from one on, with which a play can end with so many moves, or None."""
-        row = self._moves[at]
+        row = self.rows[at]
         while choice < len(row):
             left = self._left[row[choice][1]]
             if left is not None and left < most:
@@ -107,14 +108,14 @@ class Given:
             choice += 1
         return None
 
-    def _over_with(self, table):
+    def _ended_with(self, table):
         """The states with this table at which a play has ended."""
-        if not self._rules.is_table(table):
+        if not self.rules.is_table(table):
             raise BadTable(table)
-        return [at for at in self._over if self._states[at][0] == table]
+        return [at for at in self.over if self.states[at][0] == table]
 
     def __len__(self):
-        return len(self._states)
+        return len(self.states)
 
 
 def all_states(plan, first):
@@ -138,13 +139,8 @@ def all_states(plan, first):
                     number_of[behind] = len(states)
                     states.append(behind)
                 row.append((move, number_of[behind]))
-        moves.append(sorted(row, key=text_of_move))
-    return (states, moves)
-
-
-def text_of_move(pair):
-    """By this the moves at a state are in order."""
-    return str(pair[0])
+        moves.append(tuple(sorted(row, key=text_of_move)))
+    return (tuple(states), tuple(moves))
 
 
 def moves_left(moves, goals):

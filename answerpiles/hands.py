@@ -56,3 +56,26 @@ def without_card(hands, seat, word):
     used = [(card, number - 1 if card == word else number) for card, number in hands[seat]]
     left = tuple([pair for pair in used if pair[1] > 0])
     return hands[:seat] + (left,) + hands[seat + 1:]
+
+
+def are_kept_hands(rules, value):
+    """Whether any value is hands in the form in which they are kept."""
+    if not isinstance(value, tuple) or len(value) != rules.seats:
+        return False
+    return all([is_kept_hand(rules, hand) for hand in value])
+
+
+def is_kept_hand(rules, value):
+    """Whether any value is the hand of one seat in the form in which it is kept."""
+    if not isinstance(value, tuple) or not all([is_card_pair(rules, pair) for pair in value]):
+        return False
+    words = [pair[0] for pair in value]
+    return words == sorted(set(words))
+
+
+def is_card_pair(rules, value):
+    """Whether any value is a tuple of a card and how many of it there are, at least one."""
+    if not isinstance(value, tuple) or len(value) != 2:
+        return False
+    word, number = value
+    return word in rules and rules[word].card and is_number(number, 1, MOST_OF_A_CARD)

@@ -52,7 +52,7 @@ class Plan:
 
     def __init__(self, marks, deeds, wakings, seats, order):
         names = sorted(marks)
-        self.tops = tuple([marks[name] for name in names])
+        self.limits = tuple([marks[name] for name in names])
         self.mark_at = {name: at for at, name in enumerate(names)}
         self.seat_count = seats
         self.in_any_order = order == "any"
@@ -79,7 +79,7 @@ class Plan:
         counts = list(table)
         for at, by in self.changes[word]:
             place = self.mark_at[goal] if at is None else at
-            counts[place] = max(0, min(self.tops[place], counts[place] + by))
+            counts[place] = max(0, min(self.limits[place], counts[place] + by))
         return tuple(counts)
 
     def call_rows(self, event, entry, table):

@@ -47,3 +47,8 @@ def step_of(plan, table, pile, hands, move):
         if step[0] == move:
             return step
     return None
+
+
+def text_of_move(pair):
+    """By this the moves at a state are in order; a pair begins with its move."""
+    return str(pair[0])

@@ -74,3 +74,10 @@ def made_rules(seed, most_deeds=3):
         order=numbers.one_of(["first", "last", "any"]),
         start={mark: numbers.below(end + 1) for mark, end in marks.items()},
     )
+
+
+def some_hands(seed, rules, most=1):
+    """Hands with at most so many of each card."""
+    numbers = Numbers(seed + 1000)
+    cards = [word for word in rules.words() if rules[word].card]
+    return [{word: numbers.below(most + 1) for word in cards} for _ in range(rules.seats)]

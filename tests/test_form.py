@@ -6,7 +6,8 @@ import unittest
 import warnings
 
 FOLDER = pathlib.Path(__file__).resolve().parent.parent / "answerpiles"
-STAGES = ["errors", "rules", "piles", "rings", "falling", "plays", "given"]
+STAGES = ["errors", "rules", "piles", "rings", "falling", "plays", "given", "counting", "asking",
+          "force", "toldback", "texts", "joins", "live"]
 
 
 def files():

@@ -10,7 +10,7 @@ from answerpiles.rings import Outlook
 from answerpiles.rules import Deed, Rules, Waking
 
 from helps import ODD, odd_but, raises
-from somerules import Numbers, made_rules
+from somerules import made_rules, some_hands
 from test_rings import done, lay, striking
 
 DONE = ("done", "steps", (), ())
@@ -215,15 +215,10 @@ def states_of(first):
 class AgreementTest(unittest.TestCase):
     """Given hands and State go through the same plays; all hands have all that some have."""
 
-    def hands(self, seed, rules):
-        numbers = Numbers(seed + 1000)
-        cards = [word for word in rules.words() if rules[word].card]
-        return [{word: numbers.below(2) for word in cards} for _ in range(rules.seats)]
-
     def some(self):
         for seed in range(90):
             rules = made_rules(seed)
-            hands = self.hands(seed, rules)
+            hands = some_hands(seed, rules)
             try:
                 yield rules, hands, Given(rules, hands)
             except TooMany:

@@ -3,7 +3,8 @@
 import inspect
 import unittest
 
-from answerpiles import falling, given, piles, plays, rings, rules
+from answerpiles import asking, counting, falling, force, given, joins, live, piles, plays, rings
+from answerpiles import rules, texts, toldback
 
 DEED = ("(word, *, opens=False, answers=(), whose='any', asks=None, pays=None, card=True, "
         "goals=(), steps=())")
@@ -13,6 +14,13 @@ FUNCTIONS = {
     falling: {"paper_of": "(rules, *, everywhere=False)",
               "is_paper": "(rules, value, *, everywhere=False)", "pays_down": "(rules)"},
     plays: {"play_text": "(moves)", "read_play": "(text)"},
+    counting: {"count_plays": "(given, moves)", "count_without": "(given, moves, word)",
+               "play_at": "(given, moves, number)", "rank_of": "(given, play)"},
+    asking: {"is_position": "(rules, value)"},
+    texts: {"rules_text": "(rules)", "read_rules": "(text)"},
+    joins: {"are_apart": "(one, other)", "joined_paper": "(one, other, paper, more)",
+            "parts_of": "(rules)", "only": "(rules, words)", "endless_parts": "(rules)",
+            "results_of_parts": "(rules)"},
 }
 CLASSES = {
     rules.Deed: {"": DEED, "all_marks": "(self)", "__eq__": None},
@@ -39,14 +47,37 @@ CLASSES = {
         "": "(rules, hands, *, table=None)", "results": "(self)", "left": "(self, table)",
         "many": "(self)", "shortest": "(self, table)", "plays": "(self, most)", "__len__": None,
     },
+    force.Game: {
+        "": "(rules, hands, *, table=None, asking='again')", "__len__": None, "__contains__": None,
+        "positions": "(self)", "mover": "(self, position)", "moves": "(self, position)",
+        "after": "(self, position, move)", "wins": "(self, wish, friends)",
+        "way": "(self, wish, friends)", "shows": "(self, wish, friends, paper)",
+        "guard": "(self, wish, friends)", "holds_off": "(self, wish, friends, paper)",
+        "greatest": "(self, mark, friends)", "passed_over": "(self)",
+    },
+    toldback.Told: {
+        "": "(given, seen)", "__len__": None, "stories": "(self, most=1000)", "tops": "(self, at)",
+        "tables": "(self, at)", "laid": "(self)", "surely_laid": "(self)",
+    },
+    live.Live: {
+        "": "(rules, hands, *, table=None, asking='again')", "__len__": None, "__eq__": None,
+        "ask": "(self, reading)", "moves": "(self)", "do": "(self, move)",
+        "lay": "(self, word, *, goal=None, calls=())", "pass_on": "(self)",
+        "end_top": "(self, way='steps', *, struck=(), calls=())", "passes": "(self, most=1)",
+        "tried": "(self, moves)", "undo": "(self)", "redo": "(self)", "played": "(self)",
+        "journal": "(self)", "copied": "(self)", "trial": "(self)",
+    },
 }
 PROPERTIES = {
     rules.Deed: ["answers", "goals", "steps", "asks", "pays", "act"],
     rules.Rules: ["marks", "deeds", "wakings", "seats", "order", "start"],
     piles.State: ["pile", "hands", "is_over"],
     given.Given: ["is_endless"],
+    toldback.Told: ["amount"],
+    live.Live: ["position", "state", "asked", "is_over", "asking"],
 }
-GENERATORS = [(piles.State, "lays"), (piles.State, "dones"), (given.Given, "plays")]
+GENERATORS = [(piles.State, "lays"), (piles.State, "dones"), (given.Given, "plays"),
+              (toldback.Told, "stories")]
 
 
 class InterfaceTest(unittest.TestCase):
@@ -70,11 +101,23 @@ class InterfaceTest(unittest.TestCase):
     def test_modules_of_classes(self):
         self.assertEqual([kind.__module__ for kind in CLASSES], [
             "answerpiles.rules", "answerpiles.rules", "answerpiles.rules", "answerpiles.piles",
-            "answerpiles.rings", "answerpiles.given"])
+            "answerpiles.rings", "answerpiles.given", "answerpiles.force", "answerpiles.toldback",
+            "answerpiles.live"])
 
     def test_class_method(self):
         self.assertIsInstance(vars(piles.State)["with_all"], classmethod)
         self.assertEqual(str(inspect.signature(piles.State.with_all)), "(rules, number)")
+
+    def test_static_method(self):
+        self.assertIsInstance(vars(live.Live)["read"], staticmethod)
+        self.assertEqual(str(inspect.signature(live.Live.read)),
+                         "(rules, hands, text, *, table=None, asking='again')")
+
+    def test_the_property_that_can_be_set(self):
+        for kind, names in PROPERTIES.items():
+            for name in names:
+                can_be_set = vars(kind)[name].fset is not None
+                self.assertIs(can_be_set, (kind, name) == (live.Live, "asking"), name)
 
     def test_properties(self):
         for kind, names in PROPERTIES.items():
@@ -91,3 +134,5 @@ class InterfaceTest(unittest.TestCase):
         self.assertTrue({"word", "opens", "whose", "card"} <= set(vars(deed)))
         self.assertTrue({"event", "deed", "call", "by", "may"} <= set(vars(waking)))
         self.assertTrue({"rules", "table"} <= set(vars(state)))
+        game = force.Game(state.rules, [{}, {}])
+        self.assertIn("first", vars(game))
