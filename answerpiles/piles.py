@@ -1,7 +1,7 @@
 """States of a game: a table, a pile and hands, and what each move makes of them."""
 
 from answerpiles.errors import BadEntry, BadHands, BadMove, BadRules, BadTable
-from answerpiles.forms import is_move, is_pile
+from answerpiles.forms import is_pile
 from answerpiles.hands import are_hands, kept_hands, told_hands
 from answerpiles.kinds import is_row
 from answerpiles.rules import Rules
@@ -66,9 +66,7 @@ class State:
 
     def after(self, move):
         """The state behind a move."""
-        step = None
-        if is_move(move):
-            step = step_of(self.rules.plan, self.table, self._pile, self._hands, move)
+        step = step_of(self.rules.plan, self.table, self._pile, self._hands, move)
         if step is None:
             raise BadMove(move)
         return self._behind(step)

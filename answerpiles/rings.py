@@ -1,7 +1,8 @@
 """What is reached with full hands, how it ends, and what can go round for ever."""
 
 from answerpiles.errors import BadPlace, BadRules
-from answerpiles.forms import is_move, is_place
+from answerpiles.forms import is_place
+from answerpiles.outcomes import end_tables
 from answerpiles.rules import Rules
 from answerpiles.steps import step_of
 from answerpiles.walks import both_walks, ends_of
@@ -36,8 +37,7 @@ class Outlook:
 
     def results(self):
         """The tables with which a pile that began with an opening can end."""
-        ends = [end for move, at in self._begins for end in self._full.fewest[at]]
-        return sorted(set([end[0] for end in ends]))
+        return end_tables(self._full, self._begins)
 
     def never(self, *, calm=False):
         """The places that never end, or never calmly."""
@@ -93,9 +93,7 @@ def states_behind(rules, state, moves):
     """
     found = []
     for move in moves:
-        step = None
-        if is_move(move):
-            step = step_of(rules.plan, state[0], state[1], None, move)
+        step = step_of(rules.plan, state[0], state[1], None, move)
         if step is None or not step[2]:
             return None
         state = (step[1], step[2])

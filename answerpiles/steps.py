@@ -4,6 +4,7 @@ A step is a tuple (move, table, pile, hands): a move and what is there
 behind it. Piles are tuples of any height, hands as they are kept.
 """
 
+from answerpiles.forms import is_move
 from answerpiles.hands import has_card, without_card
 
 
@@ -42,7 +43,9 @@ def all_steps(plan, table, pile, hands):
 
 
 def step_of(plan, table, pile, hands, move):
-    """The step with a move, or None if it cannot be made."""
+    """The step with any value that is a move, or None if it is none that can be made."""
+    if not is_move(move):
+        return None
     for step in all_steps(plan, table, pile, hands):
         if step[0] == move:
             return step

@@ -9,13 +9,18 @@ MOST_PLACES = 2000
 GONE = ("done", "steps", (), ())
 
 
+def openings_at(plan, table):
+    """All (move, place) with which a play can begin with a table."""
+    found = []
+    for move, laid, behind in plan.lay_ways(table, None):
+        found.append((move, (behind, laid[0], laid[1:])))
+    return found
+
+
 def openings(rules, everywhere):
     """All (move, place) with which a play can begin, from the start or from each table."""
-    found = []
-    for table in rules.tables() if everywhere else [rules.start]:
-        for move, laid, behind in rules.plan.lay_ways(table, None):
-            found.append((move, (behind, laid[0], laid[1:])))
-    return found
+    tables = rules.tables() if everywhere else [rules.start]
+    return [pair for table in tables for pair in openings_at(rules.plan, table)]
 
 
 def behind_end(plan, end, entry):
@@ -43,11 +48,13 @@ class Walk:
     Ends are settled by their numbers of moves, the fewest first, so that each
     one is settled once, with the fewest moves and with a reason: (end above,
     move, number of the place behind it), each of them perhaps None.
+    With more than most places there are too many (None: never).
     """
 
-    def __init__(self, plan, roots, calm):
+    def __init__(self, plan, roots, calm, most=MOST_PLACES):
         self.plan = plan
         self.calm = calm
+        self._most = most
         self.sites = []
         self.number_of = {}
         # For each place: the one that begins with what lies above its entry, or None.
@@ -73,8 +80,8 @@ class Walk:
         if place in self.number_of:
             return self.number_of[place]
         at = len(self.sites)
-        if at >= MOST_PLACES:
-            raise TooMany(MOST_PLACES)
+        if self._most is not None and at >= self._most:
+            raise TooMany(self._most)
         self.number_of[place] = at
         self.sites.append(place)
         self.over.append(None)
@@ -158,15 +165,20 @@ class Walk:
             self._go_on(lower, end)
 
 
-def both_walks(rules, everywhere):
-    """The walk by all moves, the one by calm moves, and all (move, place) of openings.
-
-    Both walks number alike, and the places of openings are told by their numbers.
-    """
+def full_walk(rules, everywhere):
+    """The walk by all moves, and all (move, number of the place) of openings."""
     begins = openings(rules, everywhere)
-    full = Walk(rules.plan, [place for move, place in begins], False)
-    calm = Walk(rules.plan, full.sites, True)
-    return (full, calm, [(move, full.number_of[place]) for move, place in begins])
+    walk = Walk(rules.plan, [place for move, place in begins], False)
+    return (walk, [(move, walk.number_of[place]) for move, place in begins])
+
+
+def both_walks(rules, everywhere):
+    """The walk by all moves, the one by calm moves, and all (move, number of the place) of openings.
+
+    Both walks number alike.
+    """
+    full, begins = full_walk(rules, everywhere)
+    return (full, Walk(rules.plan, full.sites, True), begins)
 
 
 def ends_of(walk, at):

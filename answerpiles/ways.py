@@ -100,6 +100,11 @@ def heights(rows):
     return found
 
 
+def has_ring(calm):
+    """Whether some way through the places of a calm walk never ends."""
+    return None in heights([[edge[0] for edge in row] for row in edges_of(calm)])
+
+
 def round_places(rows):
     """For each place whether ways that go round lead both to it and from it."""
     onward = [height is None for height in heights(rows)]

@@ -7,7 +7,7 @@ import warnings
 
 FOLDER = pathlib.Path(__file__).resolve().parent.parent / "answerpiles"
 STAGES = ["errors", "rules", "piles", "rings", "falling", "plays", "given", "counting", "asking",
-          "force", "toldback", "texts", "joins", "live"]
+          "force", "toldback", "texts", "joins", "live", "orders", "slips", "compared"]
 
 
 def files():

@@ -3,8 +3,8 @@
 import inspect
 import unittest
 
-from answerpiles import asking, counting, falling, force, given, joins, live, piles, plays, rings
-from answerpiles import rules, texts, toldback
+from answerpiles import asking, compared, counting, falling, force, given, joins, live, orders, piles
+from answerpiles import plays, rings, rules, slips, texts, toldback
 
 DEED = ("(word, *, opens=False, answers=(), whose='any', asks=None, pays=None, card=True, "
         "goals=(), steps=())")
@@ -21,6 +21,13 @@ FUNCTIONS = {
     joins: {"are_apart": "(one, other)", "joined_paper": "(one, other, paper, more)",
             "parts_of": "(rules)", "only": "(rules, words)", "endless_parts": "(rules)",
             "results_of_parts": "(rules)"},
+    orders: {"readings": "(rules)", "event_ends": "(rules, event, word, table)",
+             "order_counts": "(rules, event, word, table)", "where_order_counts": "(rules)",
+             "parted_reading": "(rules)", "is_parted_reading": "(rules, value)"},
+    slips: {"slips": "(rules)", "slip_play": "(rules, word, kind, fail)",
+            "is_slip": "(rules, word, kind, fail, value)"},
+    compared: {"endings": "(rules)", "within": "(one, other)", "alike": "(one, other)",
+               "parting": "(one, other)", "is_parting": "(one, other, value)"},
 }
 CLASSES = {
     rules.Deed: {"": DEED, "all_marks": "(self)", "__eq__": None},
@@ -127,6 +134,7 @@ class InterfaceTest(unittest.TestCase):
     def test_generators(self):
         for kind, name in GENERATORS:
             self.assertTrue(inspect.isgeneratorfunction(vars(kind)[name]))
+        self.assertTrue(inspect.isgeneratorfunction(orders.where_order_counts))
 
     def test_attributes(self):
         deed, waking = rules.Deed("a"), rules.Waking("done", "a", "a")
