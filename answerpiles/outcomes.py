@@ -26,6 +26,31 @@ def always_ends(rules):
     return not has_ring(calm)
 
 
+def laying_moves(walk, begins):
+    """All moves with which something is laid in some play, and perhaps others."""
+    found = [move for move, at in begins]
+    for row in walk.links:
+        found.extend([move for move, to in row])
+    for row in walk.turns:
+        found.extend([move for end, move, to in row])
+    return found
+
+
+def words_laid(walk, begins):
+    """The words of the deeds that seats lay in some play, as a dict of True."""
+    return {move[2]: True for move in laying_moves(walk, begins) if move[0] == "lay"}
+
+
+def calls_laid(walk, begins):
+    """The numbers of the wakings whose call is laid in some play, as a dict of True."""
+    found = {}
+    for move in laying_moves(walk, begins):
+        calls = move[4] if move[0] == "lay" else move[2] + move[3]
+        for number, _ in calls:
+            found[number] = True
+    return found
+
+
 def opened_walk(rules):
     """The walk from all tables, and all (opening, move, number of the place)."""
     found = []

@@ -7,7 +7,8 @@ import warnings
 
 FOLDER = pathlib.Path(__file__).resolve().parent.parent / "answerpiles"
 STAGES = ["errors", "rules", "piles", "rings", "falling", "plays", "given", "counting", "asking",
-          "force", "toldback", "texts", "joins", "live", "orders", "slips", "compared"]
+          "force", "toldback", "texts", "joins", "live", "orders", "slips", "compared",
+          "idle", "mends", "sessions", "consoles"]
 
 
 def files():

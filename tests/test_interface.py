@@ -3,8 +3,8 @@
 import inspect
 import unittest
 
-from answerpiles import asking, compared, counting, falling, force, given, joins, live, orders, piles
-from answerpiles import plays, rings, rules, slips, texts, toldback
+from answerpiles import asking, compared, consoles, counting, errors, falling, force, given, idle, joins
+from answerpiles import live, mends, orders, piles, plays, rings, rules, sessions, slips, texts, toldback
 
 DEED = ("(word, *, opens=False, answers=(), whose='any', asks=None, pays=None, card=True, "
         "goals=(), steps=())")
@@ -28,6 +28,11 @@ FUNCTIONS = {
             "is_slip": "(rules, word, kind, fail, value)"},
     compared: {"endings": "(rules)", "within": "(one, other)", "alike": "(one, other)",
                "parting": "(one, other)", "is_parting": "(one, other, value)"},
+    idle: {"unlaid": "(rules, *, everywhere=False)", "unwoken": "(rules, *, everywhere=False)",
+           "needless": "(rules)", "vain_mays": "(rules)", "without": "(rules, part)",
+           "bare": "(rules)", "odds": "(rules, number)"},
+    mends: {"mended": "(rules, repairs)", "card_sets": "(rules)"},
+    sessions: {"attempted": "(session, changes, *, fast=False)"},
 }
 CLASSES = {
     rules.Deed: {"": DEED, "all_marks": "(self)", "__eq__": None},
@@ -74,6 +79,18 @@ CLASSES = {
         "tried": "(self, moves)", "undo": "(self)", "redo": "(self)", "played": "(self)",
         "journal": "(self)", "copied": "(self)", "trial": "(self)",
     },
+    mends.Mend: {
+        "": "(rules, menu, wishes)", "behind": "(self, picks)", "__call__": "(self, picks)",
+        "unmet": "(self, picks)", "ring": "(self, picks)", "good": "(self)", "least": "(self)",
+        "__len__": None,
+    },
+    sessions.Session: {
+        "": "(rules)", "__getitem__": None, "__setitem__": None, "__contains__": None, "__len__": None,
+        "strike": "(self, word)", "wake": "(self, waking)", "hush": "(self, number)", "undo": "(self)",
+        "change": "(self, change)", "would_end": "(self, change)",
+    },
+    sessions.Attempt: {"": "(session)", "__enter__": None, "__exit__": None, "hold_fast": "(self)"},
+    consoles.Console: {"": "(rules)", "execute": "(self, line)", "__call__": "(self, line)", "__len__": None},
 }
 PROPERTIES = {
     rules.Deed: ["answers", "goals", "steps", "asks", "pays", "act"],
@@ -82,9 +99,12 @@ PROPERTIES = {
     given.Given: ["is_endless"],
     toldback.Told: ["amount"],
     live.Live: ["position", "state", "asked", "is_over", "asking"],
+    sessions.Session: ["rules", "reading"],
+    consoles.Console: ["rules"],
 }
+CAN_BE_SET = [(live.Live, "asking"), (sessions.Session, "reading")]
 GENERATORS = [(piles.State, "lays"), (piles.State, "dones"), (given.Given, "plays"),
-              (toldback.Told, "stories")]
+              (toldback.Told, "stories"), (mends.Mend, "good")]
 
 
 class InterfaceTest(unittest.TestCase):
@@ -109,7 +129,8 @@ class InterfaceTest(unittest.TestCase):
         self.assertEqual([kind.__module__ for kind in CLASSES], [
             "answerpiles.rules", "answerpiles.rules", "answerpiles.rules", "answerpiles.piles",
             "answerpiles.rings", "answerpiles.given", "answerpiles.force", "answerpiles.toldback",
-            "answerpiles.live"])
+            "answerpiles.live", "answerpiles.mends", "answerpiles.sessions", "answerpiles.sessions",
+            "answerpiles.consoles"])
 
     def test_class_method(self):
         self.assertIsInstance(vars(piles.State)["with_all"], classmethod)
@@ -120,11 +141,11 @@ class InterfaceTest(unittest.TestCase):
         self.assertEqual(str(inspect.signature(live.Live.read)),
                          "(rules, hands, text, *, table=None, asking='again')")
 
-    def test_the_property_that_can_be_set(self):
+    def test_the_properties_that_can_be_set(self):
         for kind, names in PROPERTIES.items():
             for name in names:
                 can_be_set = vars(kind)[name].fset is not None
-                self.assertIs(can_be_set, (kind, name) == (live.Live, "asking"), name)
+                self.assertIs(can_be_set, (kind, name) in CAN_BE_SET, name)
 
     def test_properties(self):
         for kind, names in PROPERTIES.items():
@@ -144,3 +165,20 @@ class InterfaceTest(unittest.TestCase):
         self.assertTrue({"rules", "table"} <= set(vars(state)))
         game = force.Game(state.rules, [{}, {}])
         self.assertIn("first", vars(game))
+
+    def test_wrong_rules_everywhere(self):
+        """Each function and class raises BadRules for an argument called rules, one or other."""
+        for module in [compared, falling, idle, joins, mends, orders, piles, rings, slips, texts, given, force,
+                       live, sessions, consoles, asking]:
+            for name, thing in vars(module).items():
+                if name.startswith("_") or getattr(thing, "__module__", "") != module.__name__:
+                    continue
+                told = {**FUNCTIONS.get(module, {}), **{kind.__name__: names[""] for kind, names in CLASSES.items()}}
+                if not told.get(name, "").startswith(("(rules", "(one")) or name == "is_ring":
+                    continue
+                needed = [one for one in inspect.signature(thing).parameters.values() if one.default is one.empty]
+                with self.assertRaises(errors.BadRules) as caught:
+                    if inspect.isgeneratorfunction(thing):
+                        next(thing("none"))
+                    thing(*["none" for _ in needed])
+                self.assertEqual(caught.exception.part, "none", name)
