@@ -128,12 +128,12 @@ class Console:
             play = slip_play(self.rules, words[1], words[2], words[3])
             return ["none"] if play is None else move_lines(play)
         try:
-            self._edit(line, words)
+            self._make_edit(line, words)
         except (BadArgument, BadRules, NothingLeft, NotThere) as why:
             raise BadCommand(line) from why
         return [str(len(self._session))]
 
-    def _edit(self, line, words):
+    def _make_edit(self, line, words):
         """Makes the edit of a line."""
         change = change_of(words)
         if words == ["undo"]:

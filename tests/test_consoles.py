@@ -202,6 +202,14 @@ class EditsTest(unittest.TestCase):
                     call(value)
             self.assertEqual((console.rules, len(console)), (slipping(), 0))
 
+    def test_hush_takes_one_figure(self):
+        console = Console(two_calls())
+        for line in ["hush 01", "hush 00", "hush 10", "hush 1 ", "hush ", "hush", "hush 1.", "hush \u0661"]:
+            with raises(self, BadCommand, "command", line):
+                console(line)
+            self.assertEqual((console.rules, len(console)), (two_calls(), 0))
+        self.assertEqual(console("hush 1"), ["1"])
+
     def test_wrong_rules(self):
         for value in ODD + [Rules, Session(slipping())]:
             with raises(self, BadRules, "part", value):

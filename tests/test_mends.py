@@ -109,7 +109,8 @@ class MendedTest(unittest.TestCase):
             ("pay", "b", "n"), ("pay", "b", "k"), ("pay", "d", "m"), ("pay", "b", "goal"), ("pay", "b"),
             ("pay", "b", ["m"]), ("pay", ["b"], "m"), ("pay", "b", 0), ("mute", "b", "b"), ("mute", "b", "c"),
             ("mute", "d", "a"), ("mute", "c", "a"), ("mute", "b", None), ("mute", "b"), ("Out", 0), (0, 0), (None, "a"),
-            (["out"], 0), ("more", "a"), "out 0", ("out", None), (), ("out", 10 ** 30),
+            (["out"], 0), ("more", "a"), "out 0", ("out", None), (), ("out", 10 ** 30), ("card", "a", "n"),
+            ("more", "b", "m"), (None, "b", "m"), ("Mute", "a", "b"),
         ]
         for value in odd_but([]) + wrong:
             for repairs in [[value], (("out", 0), value)]:
@@ -274,7 +275,8 @@ class MendTest(unittest.TestCase):
             [("end",)], [("ends", None)], [("can", 0)], [("with", (3, 0))], [("with", (0,))], [("with", [0, 0])],
             [("with",)], [("never", (True, 0))], [("never", None)], [("lays", "d")], [("lays", 0)], [("lays",)],
             [["ends"]], ["ends"], [("ends",), None], [(0,)], [(["ends"],)], {("ends",): 1}, [("ends",)] * 7,
-            [("with", (0, 0), 0)], [("lays", ["a"])],
+            [("with", (0, 0), 0)], [("lays", ["a"])], [("lay", "a")], [("ends", "a")], [(None, "a")],
+            [("lays", (0, 0))], [("table", (0, 0))],
         ]
         for value in odd_but([], ()) + wrong:
             with raises(self, BadArgument, "value", value):

@@ -236,6 +236,11 @@ class EventsTest(unittest.TestCase):
         self.assertEqual(list(where_order_counts(rules)),
                          [("done", "b", (0,)), ("done", "b", (1,)), ("struck", "a", (0,)), ("struck", "a", (1,))])
         self.assertEqual(list(where_order_counts(Rules({}, [Deed("a")]))), [])
+        for pair in itertools.permutations(itertools.product(EVENTS, "ab"), 2):
+            wakings = [Waking(event, word, call) for event, word in pair for call in ["up", "down"]]
+            found = list(where_order_counts(rules.changed(wakings=wakings)))
+            self.assertEqual(found, sorted(found))
+            self.assertTrue({(event, word, (0,)) for event, word in pair} <= set(found))
 
     def test_ends_as_plays_lead_to_them(self):
         whole = 0
