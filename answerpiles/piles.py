@@ -20,7 +20,7 @@ class State:
             raise BadEntry(pile)
         if hands is not None and not are_hands(rules, hands):
             raise BadHands(hands)
-        self.rules = rules
+        self._rules = rules
         self.table = rules.start if table is None else table
         self._pile = tuple(pile)
         self._hands = None if hands is None else kept_hands(hands)
@@ -33,6 +33,11 @@ class State:
         words = [word for word in rules.words() if rules[word].card]
         hands = [{word: number for word in words} for _ in range(rules.seats)]
         return cls(rules, hands=hands)
+
+    @property
+    def rules(self):
+        """The rules by which it is played."""
+        return self._rules
 
     @property
     def pile(self):
@@ -51,22 +56,22 @@ class State:
 
     def lays(self):
         """All (move, state behind it) with which a seat lays a deed."""
-        for step in lay_steps(self.rules.plan, self.table, self._pile, self._hands):
+        for step in lay_steps(self._rules.plan, self.table, self._pile, self._hands):
             yield (step[0], self._behind(step))
 
     def dones(self):
         """All (move, state behind it) with which the top is done."""
-        for step in done_steps(self.rules.plan, self.table, self._pile, self._hands):
+        for step in done_steps(self._rules.plan, self.table, self._pile, self._hands):
             yield (step[0], self._behind(step))
 
     def moves(self):
         """All moves that can be made."""
-        steps = all_steps(self.rules.plan, self.table, self._pile, self._hands)
+        steps = all_steps(self._rules.plan, self.table, self._pile, self._hands)
         return sorted([step[0] for step in steps], key=str)
 
     def after(self, move):
         """The state behind a move."""
-        step = step_of(self.rules.plan, self.table, self._pile, self._hands, move)
+        step = step_of(self._rules.plan, self.table, self._pile, self._hands, move)
         if step is None:
             raise BadMove(move)
         return self._behind(step)
@@ -84,7 +89,7 @@ class State:
 
     def _behind(self, step):
         """The state behind a step; BadEntry if its pile is too high."""
-        return State(self.rules, step[1], step[2], hands=told_hands(step[3]))
+        return State(self._rules, step[1], step[2], hands=told_hands(step[3]))
 
     def __len__(self):
         return len(self._pile)
@@ -92,6 +97,6 @@ class State:
     def __eq__(self, other):
         if not isinstance(other, State):
             return False
-        if self.rules != other.rules or self.table != other.table:
+        if self._rules != other._rules or self.table != other.table:
             return False
         return self._pile == other._pile and self._hands == other._hands

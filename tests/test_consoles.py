@@ -71,6 +71,12 @@ class QuestionsTest(unittest.TestCase):
             self.assertEqual(console(line), lines, line)
         self.assertEqual((console.rules, len(console)), (two_calls(), 0))
 
+    def test_rules_cannot_be_set(self):
+        console = Console(two_calls())
+        with self.assertRaises(AttributeError):
+            console.rules = slipping()
+        self.assertEqual((console.rules, len(console)), (two_calls(), 0))
+
     def test_a_ring(self):
         console = Console(striking(False))
         ring = console("ring")

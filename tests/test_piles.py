@@ -48,6 +48,19 @@ class StateTest(unittest.TestCase):
         self.assertEqual(len(state), 2)
         self.assertEqual(state, State(some_rules(), (1, 3), pile, hands=tuple(hands)))
 
+    def test_rules_are_told_by_every_state(self):
+        rules = some_rules()
+        opening = State(rules)
+        behind = opening.after(lay(0, "a", "n"))
+        states = [opening, behind, State.with_all(rules, 2), State(rules, (1, 3), behind.pile, hands=[{}, {"c": 1}])]
+        states += opening.played([lay(0, "a", "m"), DONE])
+        states += [state for _, state in [*opening.lays(), *behind.lays(), *behind.dones()]]
+        for state in states:
+            self.assertEqual(state.rules, some_rules())
+            with self.assertRaises(AttributeError):
+                state.rules = Rules({}, [Deed("a")])
+            self.assertEqual(state.rules, some_rules())
+
     def test_wrong_rules(self):
         for value in ODD:
             with raises(self, BadRules, "part", value):

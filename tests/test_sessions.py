@@ -43,6 +43,13 @@ class SessionTest(unittest.TestCase):
         with self.assertRaises(TypeError):
             iter(session)
 
+    def test_rules_cannot_be_set(self):
+        session = Session(whole())
+        for rules in [whole(), striking(False)]:
+            with self.assertRaises(AttributeError):
+                session.rules = rules
+            self.check(session, whole(), 0)
+
     def test_setting_deeds(self):
         session = Session(whole())
         deed = Deed("b", opens=True, steps=[("more", "m")])
