@@ -22,7 +22,7 @@ class Given:
             raise BadTable(table)
         if not are_hands(rules, hands):
             raise BadHands(hands)
-        self.rules = rules
+        self._rules = rules
         first = (rules.start if table is None else table, (), kept_hands(hands))
         # Other files count and tell plays by these three, which never change.
         self.states, self.rows = all_states(rules.plan, first)
@@ -30,6 +30,11 @@ class Given:
         self.over = tuple([at for at, state in enumerate(self.states) if at > 0 and not state[1]])
         self._heights = heights([[to for move, to in row] for row in self.rows])
         self._left = moves_left(self.rows, self.over)
+
+    @property
+    def rules(self):
+        """The rules by which they are played."""
+        return self._rules
 
     @property
     def is_endless(self):
@@ -110,7 +115,7 @@ class Given:
 
     def _ended_with(self, table):
         """The states with this table at which a play has ended."""
-        if not self.rules.is_table(table):
+        if not self._rules.is_table(table):
             raise BadTable(table)
         return [at for at in self.over if self.states[at][0] == table]
 

@@ -56,6 +56,13 @@ class GivenTest(unittest.TestCase):
         self.assertEqual(list(given.plays(2)), [[lay(0, "a"), DONE]])
         self.assertEqual([list(given.plays(most)) for most in (0, 1)], [[], []])
 
+    def test_rules(self):
+        for given in [Given(two(), [{"a": 1}, {}]), Given(two(), [{}, {}], table=(2,))]:
+            self.assertEqual(given.rules, two())
+            with self.assertRaises(AttributeError):
+                given.rules = striking(True)
+            self.assertEqual(given.rules, two())
+
     def test_another_table(self):
         given = Given(two(), ({"a": 1}, {"hit": 0}), table=(2,))
         self.assertEqual(given.results(), [(2,)])

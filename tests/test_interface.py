@@ -96,7 +96,7 @@ PROPERTIES = {
     rules.Deed: ["answers", "goals", "steps", "asks", "pays", "act"],
     rules.Rules: ["marks", "deeds", "wakings", "seats", "order", "start"],
     piles.State: ["rules", "pile", "hands", "is_over"],
-    given.Given: ["is_endless"],
+    given.Given: ["rules", "is_endless"],
     toldback.Told: ["amount"],
     live.Live: ["position", "state", "asked", "is_over", "asking"],
     sessions.Session: ["rules", "reading"],
